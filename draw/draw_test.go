@@ -6,6 +6,7 @@ import (
 	"testing"
 
 	"warp/api"
+	"warp/lists"
 )
 
 const all31 = 1<<31 - 1
@@ -17,12 +18,6 @@ func sample() []int {
 
 func low() []int {
 	return []int{5, 0, all31, all31, all31 - 1, 0, 9, all31, 3, all31, 0}
-}
-
-// roomy tells l with spare room behind it, filled with sevens.
-func roomy(l []int) []int {
-	r := append(slices.Clone(l), slices.Repeat([]int{7}, 20)...)
-	return r[:len(l)]
 }
 
 // checkDraws checks that d is as it was handed in, but for At.
@@ -128,7 +123,7 @@ func TestNextBehindTheList(t *testing.T) {
 
 // What stands in the list's spare room is none of its numbers.
 func TestNextBehindTheListWithSpareRoom(t *testing.T) {
-	l := roomy([]int{8, 9})
+	l := lists.Roomy([]int{8, 9}, 7)
 	if n, _ := Next(api.Draws{L: l, At: 2}); n != 1134719295 {
 		t.Errorf("got %d, want Mix(2)", n)
 	}
@@ -263,7 +258,7 @@ func checkInTwo(t *testing.T, start api.Draws, m, n int) {
 // handed in is not asked here: R4 says of them that they are as they are.
 
 func TestNothingHandedInIsChanged(t *testing.T) {
-	l := roomy(sample())
+	l := lists.Roomy(sample(), 7)
 	was := slices.Clone(l[:cap(l)])
 	for at := -1; at < cap(l)+2; at++ {
 		d := api.Draws{L: l, At: at}
@@ -287,7 +282,7 @@ func scribble(l []int) {
 }
 
 func TestWritingIntoManyChangesNoDraws(t *testing.T) {
-	l := roomy([]int{1, 2, 3, 4, 5, 6})
+	l := lists.Roomy([]int{1, 2, 3, 4, 5, 6}, 7)
 	was := slices.Clone(l[:cap(l)])
 	for _, c := range [][2]int{{0, 6}, {1, 3}, {0, 8}, {6, 4}, {4, 1}} {
 		got, d := Many(api.Draws{L: l, At: c[0]}, c[1])

@@ -4,13 +4,9 @@ import (
 	"math"
 	"slices"
 	"testing"
-)
 
-// roomy tells l with spare room behind it, filled with sevens.
-func roomy(l []int) []int {
-	r := append(slices.Clone(l), slices.Repeat([]int{7}, 20)...)
-	return r[:len(l)]
-}
+	"warp/lists"
+)
 
 // scribble writes into l, and into its spare room.
 func scribble(l []int) {
@@ -26,37 +22,6 @@ func check(t *testing.T, what string, p, want []int) {
 	if !slices.Equal(p, want) {
 		t.Errorf("%s = %v, want %v", what, p, want)
 	}
-}
-
-// of tells n times x.
-func of(n, x int) []int {
-	return slices.Repeat([]int{x}, n)
-}
-
-// lists calls f with each list of n numbers that are all of alphabet.
-func lists(n int, alphabet []int, f func([]int)) {
-	l := make([]int, n)
-	var fill func(int)
-	fill = func(i int) {
-		if i == n {
-			f(slices.Clone(l))
-			return
-		}
-		for _, x := range alphabet {
-			l[i] = x
-			fill(i + 1)
-		}
-	}
-	fill(0)
-}
-
-// span tells the numbers from low to high.
-func span(low, high int) []int {
-	var l []int
-	for x := low; x <= high; x++ {
-		l = append(l, x)
-	}
-	return l
 }
 
 // plain is a partition without least elements: which two are of one class. It is what the tests hold part against.
@@ -117,7 +82,7 @@ func pairsOf(p []int) [][2]int {
 // partitions tells all partitions of n, told by their pairs: each element with one that is not above it.
 func partitions(n int) [][]int {
 	var l [][]int
-	lists(n, span(0, n-1), func(p []int) {
+	lists.Each(n, lists.Span(0, n-1), func(p []int) {
 		if slices.Equal(plainOf(n, pairsOf(p)).list(), p) {
 			l = append(l, p)
 		}
@@ -129,7 +94,7 @@ func partitions(n int) [][]int {
 
 func TestMay(t *testing.T) {
 	for _, p := range [][]int{
-		nil, {}, {0}, {0, 0}, {0, 1}, {0, 0, 0}, {0, 1, 0}, {0, 1, 1}, {0, 0, 2, 0, 2}, {0, 1, 2, 0, 4, 2, 2}, span(0, 100),
+		nil, {}, {0}, {0, 0}, {0, 1}, {0, 0, 0}, {0, 1, 0}, {0, 1, 1}, {0, 0, 2, 0, 2}, {0, 1, 2, 0, 4, 2, 2}, lists.Span(0, 100),
 	} {
 		if !May(p) {
 			t.Errorf("May(%v) is false", p)
@@ -161,7 +126,7 @@ func TestMayOfAllSmallLists(t *testing.T) {
 			copy(key[:], p)
 			all[key] = 1
 		}
-		lists(n, span(-1, n), func(p []int) {
+		lists.Each(n, lists.Span(-1, n), func(p []int) {
 			var key [5]int
 			copy(key[:], p)
 			if got, want := May(p), all[key] == 1; got != want {
@@ -178,7 +143,7 @@ func TestMayOfAllSmallLists(t *testing.T) {
 
 func TestMayOfTheMost(t *testing.T) {
 	for _, n := range []int{1<<16 - 1, 1 << 16, 1<<16 + 1, 1 << 17} {
-		for _, p := range [][]int{of(n, 0), span(0, n-1)} {
+		for _, p := range [][]int{lists.Of(n, 0), lists.Span(0, n-1)} {
 			if got, want := May(p), n <= 1<<16; got != want {
 				t.Errorf("May of %d = %v", n, got)
 			}
@@ -192,7 +157,7 @@ func TestMayOfTheMost(t *testing.T) {
 
 // What stands in spare room is no element.
 func TestMayWithSpareRoom(t *testing.T) {
-	p := roomy([]int{0, 0, 2})
+	p := lists.Roomy([]int{0, 0, 2}, 7)
 	if !May(p) || Classes(p) != 2 || !Le(p, []int{0, 0, 2}) || !Le([]int{0, 0, 2}, p) {
 		t.Error("spare room is looked at")
 	}
@@ -206,7 +171,7 @@ func TestMayWithSpareRoom(t *testing.T) {
 
 func TestNew(t *testing.T) {
 	for n := range 70 {
-		check(t, "New", New(n), span(0, n-1))
+		check(t, "New", New(n), lists.Span(0, n-1))
 	}
 }
 
@@ -214,7 +179,7 @@ func TestNewIsCut(t *testing.T) {
 	for _, n := range []int{-1, -2, -1 << 16, -1 << 32, math.MinInt} {
 		check(t, "New", New(n), nil)
 	}
-	most := span(0, 1<<16-1)
+	most := lists.Span(0, 1<<16-1)
 	check(t, "New of 2^16 - 1", New(1<<16-1), most[:1<<16-1])
 	for _, n := range []int{1 << 16, 1<<16 + 1, 1 << 17, 1 << 32, 1<<32 + 3, math.MaxInt} {
 		if p := New(n); !slices.Equal(p, most) {
@@ -309,7 +274,7 @@ func TestUniteOfOneClass(t *testing.T) {
 func TestUniteOfNoElement(t *testing.T) {
 	for _, p := range [][]int{nil, {}, {0}, {0, 0}, {0, 1}, {0, 1, 2, 0, 4, 2, 2}} {
 		for _, x := range nowhere(len(p)) {
-			for _, y := range append(span(0, len(p)-1), nowhere(len(p))...) {
+			for _, y := range append(lists.Span(0, len(p)-1), nowhere(len(p))...) {
 				check(t, "Unite", Unite(p, x, y), p)
 				check(t, "Unite turned round", Unite(p, y, x), p)
 			}
@@ -355,8 +320,8 @@ func TestOfNoPairsIsNew(t *testing.T) {
 func TestOfPairsThatAreNotThere(t *testing.T) {
 	for n := range 5 {
 		for _, x := range nowhere(n) {
-			for _, y := range append(span(0, n-1), nowhere(n)...) {
-				check(t, "Of", Of(n, [2]int{x, y}, [2]int{y, x}), span(0, n-1))
+			for _, y := range append(lists.Span(0, n-1), nowhere(n)...) {
+				check(t, "Of", Of(n, [2]int{x, y}, [2]int{y, x}), lists.Span(0, n-1))
 				if n > 1 {
 					// The pairs behind it are united yet.
 					check(t, "Of", Of(n, [2]int{x, y}, [2]int{0, 1}), Of(n, [2]int{0, 1}))
@@ -434,8 +399,8 @@ func TestClasses(t *testing.T) {
 		want int
 	}{
 		{nil, 0}, {[]int{}, 0}, {[]int{0}, 1}, {[]int{0, 0}, 1}, {[]int{0, 1}, 2}, {[]int{0, 1, 0}, 2}, {[]int{0, 0, 2, 0, 2}, 2},
-		{[]int{0, 1, 2, 0, 4, 2, 2}, 4}, {of(100, 0), 1}, {span(0, 99), 100},
-		{of(1<<16, 0), 1}, {span(0, 1<<16-1), 1 << 16},
+		{[]int{0, 1, 2, 0, 4, 2, 2}, 4}, {lists.Of(100, 0), 1}, {lists.Span(0, 99), 100},
+		{lists.Of(1<<16, 0), 1}, {lists.Span(0, 1<<16-1), 1 << 16},
 	} {
 		if got := Classes(c.p); got != c.want {
 			t.Errorf("Classes of %d elements = %d, want %d", len(c.p), got, c.want)
@@ -510,7 +475,7 @@ func TestLeOfAllSmallPartitions(t *testing.T) {
 }
 
 func TestLeOfTheMost(t *testing.T) {
-	finest, coarsest := New(1<<16), of(1<<16, 0)
+	finest, coarsest := New(1<<16), lists.Of(1<<16, 0)
 	if !Le(finest, coarsest) || Le(coarsest, finest) || !Le(finest, finest) || !Le(coarsest, coarsest) {
 		t.Error("Le of the most")
 	}
@@ -593,7 +558,7 @@ func TestPairsOfTheMost(t *testing.T) {
 		}
 	}
 	for i, l := range [][][2]int{rise, fall, star, last, halves, slices.Concat(fall, rise, halves, star, last)} {
-		if !slices.Equal(Of(n, l...), of(n, 0)) {
+		if !slices.Equal(Of(n, l...), lists.Of(n, 0)) {
 			t.Errorf("list %d: there is more than one class", i)
 		}
 		// The first five have not one pair too many.
@@ -610,7 +575,7 @@ func TestListsThatMayNotBe(t *testing.T) {
 	wild := []int{math.MinInt, -1, 0, 1, 2, 3, math.MaxInt}
 	var all [][]int
 	for n := range 4 {
-		lists(n, wild, func(p []int) { all = append(all, p) })
+		lists.Each(n, wild, func(p []int) { all = append(all, p) })
 	}
 	for _, p := range all {
 		was := slices.Clone(p)
@@ -633,7 +598,7 @@ func TestListsThatMayNotBe(t *testing.T) {
 			t.Fatalf("%v became %v", was, p)
 		}
 	}
-	long := of(1<<16+5, 0)
+	long := lists.Of(1<<16+5, 0)
 	if len(Unite(long, 0, 1<<16+4)) > len(long) || Le(long, long) != Le(long, slices.Clone(long)) {
 		t.Error("of a list that is too long")
 	}
@@ -642,9 +607,9 @@ func TestListsThatMayNotBe(t *testing.T) {
 // R3.
 
 func TestNothingHandedInIsChanged(t *testing.T) {
-	room := roomy([]int{0, 1, 2, 0, 4, 2, 2})
+	room := lists.Roomy([]int{0, 1, 2, 0, 4, 2, 2}, 7)
 	was := slices.Clone(room[:cap(room)])
-	other := roomy([]int{0, 1, 2, 3, 4, 5, 6})
+	other := lists.Roomy([]int{0, 1, 2, 3, 4, 5, 6}, 7)
 	wasOther := slices.Clone(other[:cap(other)])
 	May(room)
 	Classes(room)
@@ -698,7 +663,7 @@ func TestWhatIsToldIsNewMemory(t *testing.T) {
 		{1, 4, []int{0, 1, 2, 0, 1, 2, 2}}, {2, 6, []int{0, 1, 2, 0, 4, 2, 2}}, {3, 3, []int{0, 1, 2, 0, 4, 2, 2}},
 		{7, 7, []int{0, 1, 2, 0, 4, 2, 2}}, {0, 8, []int{0, 1, 2, 0, 4, 2, 2}}, {-1, 0, []int{0, 1, 2, 0, 4, 2, 2}},
 	} {
-		p := roomy([]int{0, 1, 2, 0, 4, 2, 2})
+		p := lists.Roomy([]int{0, 1, 2, 0, 4, 2, 2}, 7)
 		was := slices.Clone(p[:cap(p)])
 		toldOf(t, "Unite", c.want, func() []int { return Unite(p, c.x, c.y) })
 		if !slices.Equal(p[:cap(p)], was) {
@@ -712,7 +677,7 @@ func TestWhatIsToldIsNewMemory(t *testing.T) {
 
 // Spare room of nothing is new memory, too.
 func TestNothingToldIsNewMemory(t *testing.T) {
-	empty := roomy(nil)
+	empty := lists.Roomy(nil, 7)
 	was := slices.Clone(empty[:cap(empty)])
 	scribble(append(Unite(empty, 0, 1), 5))
 	scribble(Unite(empty, 0, 1))

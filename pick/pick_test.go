@@ -6,6 +6,7 @@ import (
 	"testing"
 
 	"warp/api"
+	"warp/lists"
 )
 
 // flags tells who is enabled: a text of 1 and 0, one a worker.
@@ -24,12 +25,6 @@ func only(n int, places ...int) []bool {
 		l[i] = true
 	}
 	return l
-}
-
-// roomy tells l with spare room behind it, filled with x.
-func roomy[T any](l []T, x T) []T {
-	r := append(slices.Clone(l), slices.Repeat([]T{x}, 20)...)
-	return r[:len(l)]
 }
 
 // scribble writes x into l, and into its spare room.
@@ -98,12 +93,12 @@ func TestStart(t *testing.T) {
 }
 
 func TestStartWithSpareRoom(t *testing.T) {
-	l := roomy([]int{4, 5}, 7)
+	l := lists.Roomy([]int{4, 5}, 7)
 	checkPicks(t, Start(l), []int{4, 5}, 0, -1)
 }
 
 func TestStartIsNewMemory(t *testing.T) {
-	l := roomy([]int{1, 2, 3}, 7)
+	l := lists.Roomy([]int{1, 2, 3}, 7)
 	was := slices.Clone(l[:cap(l)])
 	p, q := Start(l), Start(l)
 	scribble(append(p.L, -77), -77)
@@ -136,7 +131,7 @@ func TestNextOfNone(t *testing.T) {
 
 // What stands in the spare room of enabled is no worker.
 func TestNextOfNoneWithSpareRoom(t *testing.T) {
-	n, p := Next(api.Picks{L: []int{1}, Last: 4}, roomy(flags("000"), true))
+	n, p := Next(api.Picks{L: []int{1}, Last: 4}, lists.Roomy(flags("000"), true))
 	if n != -1 {
 		t.Errorf("got %d, want -1", n)
 	}
@@ -222,7 +217,7 @@ func TestNextAtNoPlace(t *testing.T) {
 
 // What stands in the list's spare room is none of its numbers.
 func TestNextBehindTheListWithSpareRoom(t *testing.T) {
-	checkNext(t, api.Picks{L: roomy([]int{0, 0}, 7), At: 2, Last: 0}, flags("1111"), 1, 2)
+	checkNext(t, api.Picks{L: lists.Roomy([]int{0, 0}, 7), At: 2, Last: 0}, flags("1111"), 1, 2)
 }
 
 func TestNextBehindLastOfManyWorkers(t *testing.T) {
@@ -364,7 +359,7 @@ func TestBehindTheListAllComeInTurn(t *testing.T) {
 // handed in is not asked here: R4 says of them that they are as they are.
 
 func TestNothingHandedInIsChanged(t *testing.T) {
-	l, enabled := roomy(sample(), 7), roomy(flags("0110101"), true)
+	l, enabled := lists.Roomy(sample(), 7), lists.Roomy(flags("0110101"), true)
 	wasL, wasEnabled := slices.Clone(l[:cap(l)]), slices.Clone(enabled[:cap(enabled)])
 	for at := -1; at < cap(l)+2; at++ {
 		p := api.Picks{L: l, At: at, Last: 2}

@@ -1,0 +1,43 @@
+// Package lists makes lists that the tests of the other packages hand in.
+package lists
+
+import "slices"
+
+const spare = 20 // places behind the end of a list with spare room
+
+// Roomy tells l with spare room behind it, filled with x.
+func Roomy[T any](l []T, x T) []T {
+	r := append(slices.Clone(l), slices.Repeat([]T{x}, spare)...)
+	return r[:len(l)]
+}
+
+// Span tells the numbers from low to high.
+func Span(low, high int) []int {
+	var l []int
+	for x := low; x <= high; x++ {
+		l = append(l, x)
+	}
+	return l
+}
+
+// Of tells n times x.
+func Of(n, x int) []int {
+	return slices.Repeat([]int{x}, n)
+}
+
+// Each calls f with each list of n numbers that are all of alphabet, each time a new one.
+func Each(n int, alphabet []int, f func([]int)) {
+	l := make([]int, n)
+	var fill func(int)
+	fill = func(i int) {
+		if i == n {
+			f(slices.Clone(l))
+			return
+		}
+		for _, x := range alphabet {
+			l[i] = x
+			fill(i + 1)
+		}
+	}
+	fill(0)
+}

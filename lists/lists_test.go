@@ -1,0 +1,42 @@
+package lists
+
+import (
+	"slices"
+	"testing"
+)
+
+func TestSpareRoom(t *testing.T) {
+	l := []int{1, 2, 3}
+	r := Roomy(l, 7)
+	if !slices.Equal(r, l) || cap(r) < len(r)+spare || r[:4][3] != 7 {
+		t.Errorf("Roomy tells %v", r[:cap(r)])
+	}
+	for i, x := range r[len(r):cap(r)][:spare] {
+		if x != 7 {
+			t.Errorf("place %d of the spare room is %d", i, x)
+		}
+	}
+	r[0] = 9
+	if !slices.Equal(l, []int{1, 2, 3}) {
+		t.Errorf("what was handed in is now %v", l)
+	}
+}
+
+func TestNumbers(t *testing.T) {
+	if !slices.Equal(Span(-1, 2), []int{-1, 0, 1, 2}) || len(Span(0, -1)) != 0 || !slices.Equal(Of(3, 5), []int{5, 5, 5}) {
+		t.Error("Span, Of")
+	}
+}
+
+func TestEach(t *testing.T) {
+	var all [][]int
+	Each(2, []int{4, 6}, func(l []int) { all = append(all, l) })
+	if !slices.EqualFunc(all, [][]int{{4, 4}, {4, 6}, {6, 4}, {6, 6}}, slices.Equal[[]int]) {
+		t.Errorf("of two there are %v", all)
+	}
+	count := 0
+	Each(0, nil, func(l []int) { count += 1 + len(l) })
+	if count != 1 {
+		t.Errorf("of none there are %d", count)
+	}
+}
