@@ -8,6 +8,7 @@ import (
 
 	"warp/api"
 	"warp/lists"
+	"warp/plays"
 )
 
 // scribble writes into l, and into its spare room.
@@ -21,18 +22,6 @@ func scribble(l []int) {
 // op tells an operation.
 func op(kind, x, y int) api.Op {
 	return api.Op{Kind: kind, X: x, Y: y}
-}
-
-// ops tells all operations on n elements.
-func ops(n int) []api.Op {
-	var l []api.Op
-	for x := range n {
-		l = append(l, op(api.OFind, x, 0))
-		for y := range n {
-			l = append(l, op(api.OSame, x, y), op(api.OUnite, x, y))
-		}
-	}
-	return l
 }
 
 // begun tells the task of an operation that may begin.
@@ -601,7 +590,7 @@ func TestWholeOperationsOfAllSmallCells(t *testing.T) {
 	for n := 1; n < 4; n++ {
 		lists.Each(n, []int{-1, 0, 3}, func(prio []int) {
 			for _, up := range forests(prio) {
-				for _, o := range ops(n) {
+				for _, o := range plays.Ops(n) {
 					checkWhole(t, up, prio, o)
 				}
 			}
@@ -609,7 +598,7 @@ func TestWholeOperationsOfAllSmallCells(t *testing.T) {
 	}
 	for _, prio := range [][]int{{1, 2, 3, 4, 5}, {-4, -4, -4, -4, -4}, {9, 7, 5, 3, 1}} {
 		for _, up := range forests(prio) {
-			for _, o := range ops(5) {
+			for _, o := range plays.Ops(5) {
 				checkWhole(t, up, prio, o)
 			}
 		}
@@ -656,7 +645,7 @@ func TestStepOfOneThatIsDone(t *testing.T) {
 			}
 		}
 	}
-	for _, o := range ops(6) {
+	for _, o := range plays.Ops(6) {
 		_, cells, x := finish(t, up, prio, begun(t, o, 6))
 		for range 3 {
 			got, y := Step(cells, prio, x)
@@ -805,8 +794,8 @@ func TestTwoTasksInTurns(t *testing.T) {
 	for _, prio := range [][]int{{1, 2, 3}, {0, 0, 0}, {5, -2, -2}} {
 		w := newWalk(t, prio)
 		for _, up := range forests(prio) {
-			for _, a := range ops(3) {
-				for _, b := range ops(3) {
+			for _, a := range plays.Ops(3) {
+				for _, b := range plays.Ops(3) {
 					w.all(up, a, b)
 				}
 			}
@@ -963,7 +952,7 @@ func TestCellsThatMayNotBe(t *testing.T) {
 			May(up, up)
 			May(up, nil)
 			May(nil, up)
-			for _, o := range ops(2) {
+			for _, o := range plays.Ops(2) {
 				for _, prio := range [][]int{nil, {1}, up, {5, 4, 3, 2}} {
 					x := api.Task{Op: o, Step: 1, U: o.X, V: o.Y}
 					cells := up
@@ -1024,7 +1013,7 @@ func TestNothingHandedInIsChanged(t *testing.T) {
 	for x := -1; x < 8; x++ {
 		Root(up, x)
 	}
-	for _, o := range ops(6) {
+	for _, o := range plays.Ops(6) {
 		for step := range 10 {
 			Step(up, prio, api.Task{Op: o, Step: step, U: o.X, V: o.Y, W: up[o.X], R: 5})
 			Step(up, prio, api.Task{Op: o, Step: step, U: o.X, V: o.Y, W: up[o.Y], R: 5})

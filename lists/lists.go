@@ -11,6 +11,14 @@ func Roomy[T any](l []T, x T) []T {
 	return r[:len(l)]
 }
 
+// Scribble writes x into l, and into its spare room.
+func Scribble[T any](l []T, x T) {
+	l = l[:cap(l)]
+	for i := range l {
+		l[i] = x
+	}
+}
+
 // Span tells the numbers from low to high.
 func Span(low, high int) []int {
 	var l []int

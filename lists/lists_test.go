@@ -22,6 +22,15 @@ func TestSpareRoom(t *testing.T) {
 	}
 }
 
+func TestScribble(t *testing.T) {
+	r := Roomy([]int{1, 2, 3}, 7)
+	Scribble(r[:1], 5)
+	if !slices.Equal(r[:cap(r)], Of(cap(r), 5)) {
+		t.Errorf("Scribble leaves %v", r[:cap(r)])
+	}
+	Scribble([]int(nil), 5)
+}
+
 func TestNumbers(t *testing.T) {
 	if !slices.Equal(Span(-1, 2), []int{-1, 0, 1, 2}) || len(Span(0, -1)) != 0 || !slices.Equal(Of(3, 5), []int{5, 5, 5}) {
 		t.Error("Span, Of")
