@@ -8,117 +8,8 @@ import (
 
 	"warp/api"
 	"warp/plays"
+	"warp/progs"
 )
-
-// drawer draws programs without places.
-type drawer struct{ next func(int) int }
-
-func (d drawer) name() string { return []string{"x", "y", "z", "f", "lets", "x_1"}[d.next(6)] }
-func (d drawer) con() string  { return []string{"C", "D", "Nil", "Int", "Let", "X_1"}[d.next(6)] }
-
-// names tells some names, perhaps none.
-func (d drawer) names() []string {
-	var l []string
-	for range d.next(4) {
-		l = append(l, d.name())
-	}
-	return l
-}
-
-// exprs tells n expressions at most so deep.
-func (d drawer) exprs(n, deep int) []api.Expr {
-	var l []api.Expr
-	for range n {
-		l = append(l, d.expr(deep))
-	}
-	return l
-}
-
-// expr tells an expression at most so deep.
-func (d drawer) expr(deep int) api.Expr {
-	if deep <= 1 || d.next(4) == 0 {
-		return d.leaf()
-	}
-	switch kind := api.EApp + d.next(6); kind {
-	case api.ELam:
-		return api.Expr{Kind: kind, Name: d.name(), Kids: d.exprs(1, deep-1)}
-	case api.ELet:
-		return api.Expr{Kind: kind, Name: d.name(), Kids: d.exprs(2, deep-1)}
-	case api.ETuple:
-		return api.Expr{Kind: kind, Kids: d.exprs(2+d.next(d.next(7)+1), deep-1)}
-	case api.EIf:
-		return api.Expr{Kind: kind, Kids: d.exprs(3, deep-1)}
-	case api.ECase:
-		return api.Expr{Kind: kind, Kids: d.exprs(1, deep-1), Alts: d.alts(deep - 1)}
-	}
-	return api.Expr{Kind: api.EApp, Kids: d.exprs(2, deep-1)}
-}
-
-func (d drawer) leaf() api.Expr {
-	switch d.next(6) {
-	case 0:
-		return api.Expr{Kind: api.ECon, Name: d.con()}
-	case 1:
-		return api.Expr{Kind: api.EInt, N: []int{0, 1, 2, 47, api.MaxInt}[d.next(5)]}
-	case 2:
-		return api.Expr{Kind: api.EBool, N: d.next(2)}
-	}
-	return api.Expr{Kind: api.EVar, Name: d.name()}
-}
-
-func (d drawer) alts(deep int) []api.Alt {
-	var l []api.Alt
-	for range 1 + d.next(3) {
-		l = append(l, api.Alt{Con: d.con(), Names: d.names(), Body: d.expr(deep)})
-	}
-	return l
-}
-
-// types tells n types at most so deep, in which those variables are numbered.
-func (d drawer) types(n, deep int, vars []string) []api.Type {
-	var l []api.Type
-	for range n {
-		l = append(l, d.typ(deep, vars))
-	}
-	return l
-}
-
-func (d drawer) typ(deep int, vars []string) api.Type {
-	switch kind := d.next(5); {
-	case kind <= 1:
-		name := d.name()
-		if n := slices.Index(vars, name); n >= 0 {
-			return yvar(n)
-		}
-		return ynone(name)
-	case deep <= 1:
-		return ycon(d.con())
-	case kind == 2:
-		return ycon(d.con(), d.types(d.next(4), deep-1, vars)...)
-	case kind == 3:
-		return ycon("->", d.types(2, deep-1, vars)...)
-	}
-	return ycon(",", d.types(2+d.next(d.next(7)+1), deep-1, vars)...)
-}
-
-func (d drawer) data() api.Data {
-	x := api.Data{Name: d.con(), Vars: d.names()}
-	for range 1 + d.next(3) {
-		x.Cons = append(x.Cons, api.Con{Name: d.con(), Args: d.types(d.next(4), 1+d.next(5), x.Vars)})
-	}
-	return x
-}
-
-func (d drawer) program() api.Program {
-	var p api.Program
-	for range d.next(3) {
-		p.Datas = append(p.Datas, d.data())
-	}
-	for range d.next(4) {
-		p.Binds = append(p.Binds, api.Bind{Name: d.name(), Body: d.expr(1 + d.next(6))})
-	}
-	return p
-}
 
 // writer writes programs as text: what may be one way or the other it draws. What it tells again has its places.
 type writer struct {
@@ -344,13 +235,13 @@ func written(p api.Program, next func(int) int, extra int) (string, api.Program)
 
 // TestDrawnPrograms holds what Parse tells of drawn programs against what was written, places too (10.1, 10.3, 10.5).
 func TestDrawnPrograms(t *testing.T) {
-	d := drawer{plays.Below(103)}
+	next := plays.Below(103)
 	for i := range 2500 {
-		p := d.program()
+		p := progs.Drawn(next)
 		for _, extra := range []int{0, 6, 2} {
-			src, want := written(p, d.next, extra)
+			src, want := written(p, next, extra)
 			check(t, src, want)
-			if bare(want) != bare(p) {
+			if progs.Bare(want) != progs.Bare(p) {
 				t.Fatalf("the test itself is wrong: %s", said(src))
 			}
 		}
@@ -362,10 +253,10 @@ func TestDrawnPrograms(t *testing.T) {
 
 // TestDrawnProgramsCutShort holds texts that end too soon, or go on wrongly, against the grammar.
 func TestDrawnProgramsCutShort(t *testing.T) {
-	d := drawer{plays.Below(104)}
+	next := plays.Below(104)
 	for range 300 {
-		src, _ := written(d.program(), d.next, 5)
-		if told(checkMay(t, src)) == "" {
+		src, _ := written(progs.Drawn(next), next, 5)
+		if progs.Told(checkMay(t, src)) == "" {
 			continue
 		}
 		// Behind the last `;` nothing can stand but `let` and `data`; ahead of it the text is no program.

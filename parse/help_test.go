@@ -2,11 +2,11 @@ package parse
 
 import (
 	"fmt"
-	"strconv"
 	"strings"
 	"testing"
 
 	"warp/api"
+	"warp/progs"
 )
 
 // said tells a text so that it can be read, cut where it is long.
@@ -68,75 +68,6 @@ func bind(at int, name string, body api.Expr) api.Bind {
 func datas(l ...api.Data) api.Program { return api.Program{Datas: l} }
 func binds(l ...api.Bind) api.Program { return api.Program{Binds: l} }
 
-// teller tells programs with all that is in them as text, the places too if it is so. A nil list is an empty one.
-type teller struct {
-	strings.Builder
-	places bool
-}
-
-// open writes the front of what is told: what it is, its place, and what else it has of its own.
-func (w *teller) open(what, name string, at int, more ...string) {
-	if !w.places {
-		at = 0
-	}
-	fmt.Fprintf(w, "%s %s @%d %q[", what, name, at, more)
-}
-
-func (w *teller) close() { w.WriteString("]") }
-
-func (w *teller) expr(e api.Expr) {
-	w.open(fmt.Sprint("e", e.Kind), e.Name, e.At, strconv.Itoa(e.N))
-	for _, kid := range e.Kids {
-		w.expr(kid)
-	}
-	for _, a := range e.Alts {
-		w.open("alt", a.Con, a.At, a.Names...)
-		w.expr(a.Body)
-		w.close()
-	}
-	w.close()
-}
-
-func (w *teller) typ(t api.Type) {
-	w.open(fmt.Sprint("y", t.Kind), t.Name, 0, strconv.Itoa(t.N))
-	for _, kid := range t.Kids {
-		w.typ(kid)
-	}
-	w.close()
-}
-
-func (w *teller) data(d api.Data) {
-	w.open("data", d.Name, d.At, d.Vars...)
-	for _, c := range d.Cons {
-		w.open("con", c.Name, c.At)
-		for _, arg := range c.Args {
-			w.typ(arg)
-		}
-		w.close()
-	}
-	w.close()
-}
-
-func (w *teller) bind(b api.Bind) {
-	w.open("bind", b.Name, b.At)
-	w.expr(b.Body)
-	w.close()
-}
-
-func (w *teller) program(p api.Program) string {
-	for _, d := range p.Datas {
-		w.data(d)
-	}
-	for _, b := range p.Binds {
-		w.bind(b)
-	}
-	return w.String()
-}
-
-// told and bare tell all of a program, with places and without them.
-func told(p api.Program) string { return (&teller{places: true}).program(p) }
-func bare(p api.Program) string { return (&teller{}).program(p) }
-
 // checkToken checks that nothing can go on at that place.
 func checkToken(t *testing.T, src string, want int) {
 	t.Helper()
@@ -161,8 +92,8 @@ func check(t *testing.T, src string, want api.Program) {
 	p, e, at := Parse(src)
 	if e != api.OK || at != 0 {
 		t.Errorf("%s: error %d at %d", said(src), e, at)
-	} else if got := told(p); got != told(want) {
-		t.Errorf("%s:\ngot  %s\nwant %s", said(src), said(got), said(told(want)))
+	} else if got := progs.Told(p); got != progs.Told(want) {
+		t.Errorf("%s:\ngot  %s\nwant %s", said(src), said(got), said(progs.Told(want)))
 	}
 }
 

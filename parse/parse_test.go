@@ -10,6 +10,7 @@ import (
 	"warp/api"
 	"warp/lists"
 	"warp/plays"
+	"warp/progs"
 )
 
 // checkHat checks that nothing can go on behind the `^` of each text, which is left out.
@@ -370,9 +371,9 @@ func TestDeep(t *testing.T) {
 			t.Errorf("expression %d: %d, want %d", i, got, c.want)
 		}
 	}
-	d := drawer{plays.Below(105)}
+	next := plays.Below(105)
 	for range 2000 {
-		if e := d.expr(1 + d.next(9)); Deep(e) != levels(e) {
+		if e := progs.DrawnExpr(next, 1+next(9)); Deep(e) != levels(e) {
 			t.Errorf("%d, want %d: %+v", Deep(e), levels(e), e)
 		}
 	}
@@ -535,7 +536,7 @@ func TestBracketsThatChangeNothing(t *testing.T) {
 		"data D a = C ((D (a)) -> (((a))));":                   "data D a = C (D a -> a);",
 		"data D a = C (((a), ((D a)))) ((((a, a)) -> ((D))));": "data D a = C (a, D a) ((a, a) -> D);",
 	} {
-		if a, b := bare(checkMay(t, src)), bare(checkMay(t, plain)); a != b || a == "" {
+		if a, b := progs.Bare(checkMay(t, src)), progs.Bare(checkMay(t, plain)); a != b || a == "" {
 			t.Errorf("%s: %s, want %s", said(src), a, b)
 		}
 	}
@@ -544,7 +545,7 @@ func TestBracketsThatChangeNothing(t *testing.T) {
 		"let x = f (a b);": "let x = f a b;", "let x = (1, (2, 3));": "let x = (1, 2, 3);",
 		"data D a = C ((a -> a) -> a);": "data D a = C (a -> a -> a);", "data D a = C (D a);": "data D a = C D a;",
 	} {
-		if bare(checkMay(t, src)) == bare(checkMay(t, plain)) {
+		if progs.Bare(checkMay(t, src)) == progs.Bare(checkMay(t, plain)) {
 			t.Errorf("%s: as %s", said(src), plain)
 		}
 	}
@@ -621,18 +622,18 @@ func TestDrawnTexts(t *testing.T) {
 }
 
 func TestTheSameAgain(t *testing.T) {
-	d := drawer{plays.Below(107)}
+	next := plays.Below(107)
 	for i := range 300 {
-		src, _ := written(d.program(), d.next, 4)
+		src, _ := written(progs.Drawn(next), next, 4)
 		if i%3 == 0 {
-			src = strings.Replace(src, ";", []string{"", "?", ")", "; let x = " + nest("(^, 1)", "1", 70)}[d.next(4)],
+			src = strings.Replace(src, ";", []string{"", "?", ")", "; let x = " + nest("(^, 1)", "1", 70)}[next(4)],
 				1)
 		}
 		p, e, at := Parse(src)
 		for range 5 {
 			Parse("data D b a = C a b; let x = (")
 			q, f, there := Parse(string([]byte(src)))
-			if told(p) != told(q) || e != f || at != there {
+			if progs.Told(p) != progs.Told(q) || e != f || at != there {
 				t.Fatalf("%s: another answer", said(src))
 			}
 		}
@@ -641,137 +642,24 @@ func TestTheSameAgain(t *testing.T) {
 
 // R3: what is told is new memory.
 
-// span is the memory of a list, spare room too.
-type span struct{ low, high uintptr }
-
-func spanOf[T any](l []T) []span {
-	if cap(l) == 0 {
-		return nil
-	}
-	low := uintptr(unsafe.Pointer(unsafe.SliceData(l)))
-	return []span{{low, low + uintptr(cap(l))*unsafe.Sizeof(l[:1][0])}}
-}
-
-func spansOfExpr(e api.Expr) []span {
-	l := slices.Concat(spanOf(e.Kids), spanOf(e.Alts))
-	for _, kid := range e.Kids {
-		l = append(l, spansOfExpr(kid)...)
-	}
-	for _, a := range e.Alts {
-		l = slices.Concat(l, spanOf(a.Names), spansOfExpr(a.Body))
-	}
-	return l
-}
-
-func spansOfType(t api.Type) []span {
-	l := spanOf(t.Kids)
-	for _, kid := range t.Kids {
-		l = append(l, spansOfType(kid)...)
-	}
-	return l
-}
-
-func spansOf(p api.Program) []span {
-	l := slices.Concat(spanOf(p.Datas), spanOf(p.Binds))
-	for _, d := range p.Datas {
-		l = slices.Concat(l, spanOf(d.Vars), spanOf(d.Cons))
-		for _, c := range d.Cons {
-			l = append(l, spanOf(c.Args)...)
-			for _, arg := range c.Args {
-				l = append(l, spansOfType(arg)...)
-			}
-		}
-	}
-	for _, b := range p.Binds {
-		l = append(l, spansOfExpr(b.Body)...)
-	}
-	return l
-}
-
 func TestNoTwoListsShareMemory(t *testing.T) {
-	d := drawer{plays.Below(108)}
+	next := plays.Below(108)
 	for range 300 {
-		src, _ := written(d.program(), d.next, 4)
-		p, q := checkMay(t, src), checkMay(t, src)
-		l := slices.Concat(spansOf(p), spansOf(q))
-		slices.SortFunc(l, func(a, b span) int { return int(a.low) - int(b.low) })
-		for i := 1; i < len(l); i++ {
-			if l[i].low < l[i-1].high {
-				t.Fatalf("%s: two lists share memory", said(src))
-			}
+		src, _ := written(progs.Drawn(next), next, 4)
+		if progs.Shared(checkMay(t, src), checkMay(t, src)) {
+			t.Fatalf("%s: two lists share memory", said(src))
 		}
 	}
-}
-
-// scribbleExpr writes into all lists of e, and into their spare room.
-func scribbleExpr(e api.Expr) {
-	for _, kid := range e.Kids {
-		scribbleExpr(kid)
-	}
-	for _, a := range e.Alts {
-		scribbleExpr(a.Body)
-		lists.Scribble(a.Names, "no")
-	}
-	lists.Scribble(e.Kids, api.Expr{Kind: 77})
-	lists.Scribble(e.Alts, api.Alt{Con: "No"})
 }
 
 func TestWritingIntoAProgramChangesNothing(t *testing.T) {
 	src := "data D a b = C a (D a, b) | E; let f x = case x of { C y z -> (f y, 1, 2); E -> g x x }; let g = true;"
 	one, other := checkMay(t, src), checkMay(t, src)
-	want := told(other)
-	for _, b := range one.Binds {
-		scribbleExpr(b.Body)
-	}
-	for _, data := range one.Datas {
-		for _, c := range data.Cons {
-			lists.Scribble(c.Args, ycon("No"))
-		}
-		lists.Scribble(data.Vars, "no")
-		lists.Scribble(data.Cons, api.Con{})
-	}
-	lists.Scribble(one.Binds, api.Bind{})
-	lists.Scribble(one.Datas, api.Data{})
-	if told(other) != want || told(checkMay(t, src)) != want {
+	want := progs.Told(other)
+	progs.Scribble(one)
+	if progs.Told(other) != want || progs.Told(checkMay(t, src)) != want {
 		t.Errorf("%s: what was told became another", said(src))
 	}
-}
-
-// textsOf tells all texts in a program.
-func textsOf(p api.Program) []string {
-	var l []string
-	var ofExpr func(e api.Expr)
-	ofExpr = func(e api.Expr) {
-		l = append(l, e.Name)
-		for _, kid := range e.Kids {
-			ofExpr(kid)
-		}
-		for _, a := range e.Alts {
-			l = append(append(l, a.Con), a.Names...)
-			ofExpr(a.Body)
-		}
-	}
-	var ofType func(t api.Type)
-	ofType = func(t api.Type) {
-		l = append(l, t.Name)
-		for _, kid := range t.Kids {
-			ofType(kid)
-		}
-	}
-	for _, d := range p.Datas {
-		l = append(append(l, d.Name), d.Vars...)
-		for _, c := range d.Cons {
-			l = append(l, c.Name)
-			for _, arg := range c.Args {
-				ofType(arg)
-			}
-		}
-	}
-	for _, b := range p.Binds {
-		l = append(l, b.Name)
-		ofExpr(b.Body)
-	}
-	return l
 }
 
 // What is handed in is not kept: no text that is told is a piece of it.
@@ -779,7 +667,7 @@ func TestTextsAreNoPieces(t *testing.T) {
 	src := strings.Clone("data D a = C a (Dee -> bee, a);" +
 		"let ff xx = case xx of { C yy -> \\zz -> let uu = 1 in Con uu };")
 	low := uintptr(unsafe.Pointer(unsafe.StringData(src)))
-	for _, s := range textsOf(checkMay(t, src)) {
+	for _, s := range progs.Texts(checkMay(t, src)) {
 		if at := uintptr(unsafe.Pointer(unsafe.StringData(s))); at >= low && at < low+uintptr(len(src)) {
 			t.Errorf("%q is a piece of what was handed in", s)
 		}
@@ -788,10 +676,10 @@ func TestTextsAreNoPieces(t *testing.T) {
 
 func TestDeepChangesNothing(t *testing.T) {
 	p := checkMay(t, "let f x = case x of { C y z -> (f y, 1, 2); E -> g x x };")
-	want := told(p)
+	want := progs.Told(p)
 	for range 3 {
-		if got := Deep(p.Binds[0].Body); got != 5 || told(p) != want {
-			t.Errorf("%d deep: %s", got, told(p))
+		if got := Deep(p.Binds[0].Body); got != 5 || progs.Told(p) != want {
+			t.Errorf("%d deep: %s", got, progs.Told(p))
 		}
 	}
 }
