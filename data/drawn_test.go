@@ -210,7 +210,7 @@ func TestDrawnDatas(t *testing.T) {
 	}
 }
 
-// TestSmallTypes holds all types of at most three nodes in a row, of some names and numbers, against the chapter.
+// TestSmallTypes holds types of at most three nodes, of some names and numbers, against the chapter.
 func TestSmallTypes(t *testing.T) {
 	var leaves []api.Type
 	for kind := range 4 {
