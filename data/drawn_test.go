@@ -6,6 +6,7 @@ import (
 	"testing"
 
 	"warp/api"
+	"warp/lists"
 	"warp/plays"
 )
 
@@ -244,30 +245,16 @@ func TestSmallTypes(t *testing.T) {
 
 // Promise 12.2: other orders.
 
-// orders calls f with each order of l.
-func orders[T any](l []T, f func([]T)) {
-	var put func(done, left []T)
-	put = func(done, left []T) {
-		if len(left) == 0 {
-			f(slices.Clone(done))
-		}
-		for i, x := range left {
-			put(append(slices.Clip(done), x), slices.Delete(slices.Clone(left), i, i+1))
-		}
-	}
-	put(nil, l)
-}
-
 func TestEachOrder(t *testing.T) {
 	l := parsed(t, `data A = X B (L A) | Y (L (L Int)) A; data B = Z A | W (P B (L A)) | V;
 		data L a = N | C a (L a) | M (P a a); data P a b = Q (a, b) (P b a -> A);`)
 	checkOnce(t, l, none)
 	count := 0
-	orders(l, func(l []api.Data) {
+	lists.Orders(l, func(l []api.Data) {
 		checkOnce(t, l, none)
 		for i, d := range l {
 			l := slices.Clone(l)
-			orders(d.Cons, func(cons []api.Con) {
+			lists.Orders(d.Cons, func(cons []api.Con) {
 				l[i].Cons = cons
 				checkOnce(t, l, none)
 				count++
@@ -284,19 +271,12 @@ func TestDrawnOrders(t *testing.T) {
 	for range 5000 {
 		l := right(next)
 		for range 5 {
-			shuffle(next, l)
+			lists.Shuffle(next, l)
 			for _, d := range l {
-				shuffle(next, d.Cons)
+				lists.Shuffle(next, d.Cons)
 			}
 			checkOnce(t, l, none)
 		}
-	}
-}
-
-func shuffle[T any](next func(int) int, l []T) {
-	for i := range l {
-		j := next(i + 1)
-		l[i], l[j] = l[j], l[i]
 	}
 }
 
@@ -306,7 +286,7 @@ func TestWrongInEachOrder(t *testing.T) {
 	for range 2000 {
 		l := changed(next, 1)
 		was := firstWrong(l) != none
-		orders(l, func(l []api.Data) {
+		lists.Orders(l, func(l []api.Data) {
 			p := firstWrong(l)
 			checkOnce(t, l, p)
 			if (p != none) != was {

@@ -49,3 +49,25 @@ func Each(n int, alphabet []int, f func([]int)) {
 	}
 	fill(0)
 }
+
+// Orders calls f with each order of l, each time a new list.
+func Orders[T any](l []T, f func([]T)) {
+	var put func(done, left []T)
+	put = func(done, left []T) {
+		if len(left) == 0 {
+			f(slices.Clone(done))
+		}
+		for i, x := range left {
+			put(append(slices.Clip(done), x), slices.Delete(slices.Clone(left), i, i+1))
+		}
+	}
+	put(nil, l)
+}
+
+// Shuffle puts l in another order, by a function that tells numbers from 0 to below its argument.
+func Shuffle[T any](next func(int) int, l []T) {
+	for i := range l {
+		j := next(i + 1)
+		l[i], l[j] = l[j], l[i]
+	}
+}

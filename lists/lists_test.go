@@ -49,3 +49,35 @@ func TestEach(t *testing.T) {
 		t.Errorf("of none there are %d", count)
 	}
 }
+
+func TestOrders(t *testing.T) {
+	var all [][]int
+	l := []int{4, 5, 6}
+	Orders(l, func(l []int) { all = append(all, l) })
+	want := [][]int{{4, 5, 6}, {4, 6, 5}, {5, 4, 6}, {5, 6, 4}, {6, 4, 5}, {6, 5, 4}}
+	if !slices.EqualFunc(all, want, slices.Equal[[]int]) || !slices.Equal(l, want[0]) {
+		t.Errorf("of %v there are %v", l, all)
+	}
+	count := 0
+	Orders([]int{}, func(l []int) { count += 1 + len(l) })
+	if count != 1 {
+		t.Errorf("of none there are %d", count)
+	}
+}
+
+func TestShuffle(t *testing.T) {
+	seen := map[[3]int]int{}
+	for x := range 6 {
+		l := []int{4, 5, 6}
+		Shuffle(func(n int) int { return x % 6 / max(n-1, 1) % n }, l)
+		seen[[3]int(l)]++
+		slices.Sort(l)
+		if !slices.Equal(l, []int{4, 5, 6}) {
+			t.Errorf("%d leaves %v", x, l)
+		}
+	}
+	if len(seen) != 6 {
+		t.Errorf("orders %v", seen)
+	}
+	Shuffle(func(int) int { return 0 }, []int(nil))
+}

@@ -78,3 +78,25 @@ func Texts(p api.Program) []string {
 	}
 	return l
 }
+
+// Places tells where all places of p stand, in no order that counts, but the same for programs that are alike.
+func Places(p api.Program) []*int {
+	var l []*int
+	x := Of(p)
+	for _, d := range x.Datas {
+		l = append(l, &d.At)
+	}
+	for _, c := range x.Cons {
+		l = append(l, &c.At)
+	}
+	for _, b := range x.Binds {
+		l = append(l, &b.At)
+	}
+	for _, e := range x.Exprs {
+		l = append(l, &e.At)
+	}
+	for _, a := range x.Alts {
+		l = append(l, &a.At)
+	}
+	return l
+}

@@ -68,6 +68,27 @@ func TestTexts(t *testing.T) {
 	}
 }
 
+func TestPlaces(t *testing.T) {
+	p, seen := sample(), map[int]int{}
+	was := Told(p)
+	for _, at := range Places(p) {
+		seen[*at]++
+		*at = 77
+		if Told(p) == was {
+			t.Errorf("place %d is not in what was handed in", *at)
+		}
+		was = Told(p)
+	}
+	for at := 1; at <= 15; at++ {
+		if seen[at] != 1 {
+			t.Errorf("place %d is told %d times", at, seen[at])
+		}
+	}
+	if len(seen) != 15 || len(Places(api.Program{})) != 0 {
+		t.Errorf("%v", seen)
+	}
+}
+
 // changes tells what changes one thing of a sample each: of a place, if it is so, or something else.
 func changes(places bool) []func(x *Parts) {
 	if places {

@@ -16,7 +16,7 @@ import (
 
 // placed tells p with all places other ones, none of them 0.
 func placed(p api.Program) api.Program {
-	for i, at := range placesOf(p) {
+	for i, at := range progs.Places(p) {
 		*at = []int{1 + i, -1 - i, math.MaxInt - i, math.MinInt + i}[i%4]
 	}
 	return p
@@ -30,7 +30,7 @@ func checkBare(t *testing.T, p api.Program) {
 	if progs.Bare(q) != progs.Bare(p) {
 		t.Errorf("%s, want %s", said(progs.Bare(q)), said(progs.Bare(p)))
 	}
-	for i, at := range placesOf(q) {
+	for i, at := range progs.Places(q) {
 		if *at != 0 {
 			t.Errorf("%s: place %d is %d", said(progs.Told(q)), i, *at)
 		}
@@ -55,7 +55,7 @@ func TestBareOfNothing(t *testing.T) {
 func TestBareOfEachPlace(t *testing.T) {
 	p := whole(t)
 	checkBare(t, p)
-	for _, at := range placesOf(p) {
+	for _, at := range progs.Places(p) {
 		for _, x := range []int{1, -1, 65536, math.MinInt, math.MaxInt} {
 			*at = x
 			checkBare(t, p)

@@ -64,7 +64,7 @@ func parsed(t *testing.T, src string) api.Program {
 	if e != api.OK {
 		t.Fatalf("%s: error %d at %d", said(src), e, at)
 	}
-	for _, at := range placesOf(p) {
+	for _, at := range progs.Places(p) {
 		*at = 0
 	}
 	return p
@@ -74,28 +74,6 @@ func parsed(t *testing.T, src string) api.Program {
 func expression(t *testing.T, src string) api.Expr {
 	t.Helper()
 	return parsed(t, "let f = "+src+";").Binds[0].Body
-}
-
-// placesOf tells where all places of p stand.
-func placesOf(p api.Program) []*int {
-	var l []*int
-	x := progs.Of(p)
-	for _, d := range x.Datas {
-		l = append(l, &d.At)
-	}
-	for _, c := range x.Cons {
-		l = append(l, &c.At)
-	}
-	for _, b := range x.Binds {
-		l = append(l, &b.At)
-	}
-	for _, e := range x.Exprs {
-		l = append(l, &e.At)
-	}
-	for _, a := range x.Alts {
-		l = append(l, &a.At)
-	}
-	return l
 }
 
 // checkMay checks that p may be, whatever its places are.
