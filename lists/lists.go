@@ -1,4 +1,4 @@
-// Package lists makes lists that the tests of the other packages hand in.
+// Package lists makes lists that the tests of the other packages hand in, and tells what those ask of lists.
 package lists
 
 import "slices"
@@ -17,6 +17,20 @@ func Scribble[T any](l []T, x T) {
 	for i := range l {
 		l[i] = x
 	}
+}
+
+// Shared tells whether any two of these lists share memory, spare room too.
+func Shared[T any](all [][]T) bool {
+	seen := map[*T]int{}
+	for _, l := range all {
+		l = l[:cap(l)]
+		for i := range l {
+			if seen[&l[i]]++; seen[&l[i]] > 1 {
+				return true
+			}
+		}
+	}
+	return false
 }
 
 // Span tells the numbers from low to high.

@@ -31,6 +31,20 @@ func TestScribble(t *testing.T) {
 	Scribble([]int(nil), 5)
 }
 
+func TestShared(t *testing.T) {
+	l, other := []int{1, 2, 3, 4}, []int{1, 2, 3, 4}
+	for i, all := range [][][]int{{l, l}, {l, other, l}, {l[:1], l[2:]}, {other, l[2:3], l[:0]}, {l[:2:2], l[1:2:2]}} {
+		if !Shared(all) {
+			t.Errorf("%d: two lists share memory", i)
+		}
+	}
+	for i, all := range [][][]int{nil, {l}, {nil, nil}, {l, nil, other}, {l[:2:2], other, l[2:]}, {l[:0:0], l, l[4:]}} {
+		if Shared(all) {
+			t.Errorf("%d: no two lists share memory", i)
+		}
+	}
+}
+
 func TestNumbers(t *testing.T) {
 	if !slices.Equal(Span(-1, 2), []int{-1, 0, 1, 2}) || len(Span(0, -1)) != 0 || !slices.Equal(Of(3, 5), []int{5, 5, 5}) {
 		t.Error("Span, Of")

@@ -62,20 +62,6 @@ func Shared(l ...api.Program) bool {
 	for _, p := range l {
 		m.add(p)
 	}
-	return shared(m.datas) || shared(m.cons) || shared(m.types) || shared(m.binds) || shared(m.exprs) ||
-		shared(m.alts) || shared(m.texts)
-}
-
-// shared tells whether one place is of two lists.
-func shared[T any](all [][]T) bool {
-	seen := map[*T]int{}
-	for _, l := range all {
-		l = l[:cap(l)]
-		for i := range l {
-			if seen[&l[i]]++; seen[&l[i]] > 1 {
-				return true
-			}
-		}
-	}
-	return false
+	return lists.Shared(m.datas) || lists.Shared(m.cons) || lists.Shared(m.types) || lists.Shared(m.binds) ||
+		lists.Shared(m.exprs) || lists.Shared(m.alts) || lists.Shared(m.texts)
 }
