@@ -54,6 +54,12 @@ func Told(g [][]int) string {
 	return strings.Join(rows, " / ")
 }
 
+// Cut tells the text that says g, cut where it is long, and how many nodes there are.
+func Cut(g [][]int) string {
+	s := Told(g[:min(len(g), 200)])
+	return s[:min(len(s), 600)] + " of " + strconv.Itoa(len(g)) + " nodes"
+}
+
 // Same tells whether g and other have the same rows; a nil one is an empty one.
 func Same(g, other [][]int) bool { return slices.EqualFunc(g, other, slices.Equal[[]int]) }
 

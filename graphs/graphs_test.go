@@ -2,8 +2,10 @@ package graphs
 
 import (
 	"slices"
+	"strings"
 	"testing"
 
+	"warp/lists"
 	"warp/plays"
 )
 
@@ -66,6 +68,38 @@ func TestMade(t *testing.T) {
 	} {
 		if Told(c.g) != c.want {
 			t.Errorf("%d: %q, want %q", i, Told(c.g), c.want)
+		}
+	}
+}
+
+func TestCut(t *testing.T) {
+	for n, want := range map[int]string{0: " of 0 nodes", 1: "- of 1 nodes", 3: "1 / 2 / - of 3 nodes"} {
+		if got := Cut(Chain(n)); got != want {
+			t.Errorf("%q, want %q", got, want)
+		}
+	}
+	if got := Cut(Chain(5000)); len(got) != 600+len(" of 5000 nodes") || !strings.HasSuffix(got, " of 5000 nodes") {
+		t.Errorf("%q", got)
+	}
+	if got := Cut(make([][]int, 5000)); got != Told(make([][]int, 200))[:600]+" of 5000 nodes" {
+		t.Errorf("%q", got)
+	}
+}
+
+func TestRenamings(t *testing.T) {
+	for n, want := range map[int]int{0: 1, 1: 1, 2: 2, 3: 6, 4: 24} {
+		if got := len(Renamings(n)); got != want {
+			t.Errorf("%d ways to name %d, want %d", got, n, want)
+		}
+	}
+	for n := range 20 {
+		for _, p := range Renamings(n) {
+			if l := slices.Sorted(slices.Values(p)); !slices.Equal(l, lists.Span(0, n-1)) {
+				t.Errorf("of %d: %v", n, p)
+			}
+		}
+		if n > 4 && len(Renamings(n)) < 2*n {
+			t.Errorf("of %d: %d", n, len(Renamings(n)))
 		}
 	}
 }

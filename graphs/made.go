@@ -1,6 +1,10 @@
 package graphs
 
-import "slices"
+import (
+	"slices"
+
+	"warp/lists"
+)
 
 // Chain tells n nodes, each of which leads to the next.
 func Chain(n int) [][]int {
@@ -60,6 +64,29 @@ func Renamed(g [][]int, p []int) [][]int {
 		named[p[x]] = l
 	}
 	return named
+}
+
+// Renamings tells ways to name n nodes: all of few, some of many.
+func Renamings(n int) [][]int {
+	names := lists.Span(0, n-1)
+	var all [][]int
+	if n <= 4 {
+		lists.Orders(names, func(l []int) { all = append(all, l) })
+		return all
+	}
+	for i := range n {
+		l := slices.Concat(names[i:], names[:i])
+		all = append(all, slices.Clone(l))
+		slices.Reverse(l)
+		all = append(all, slices.Clone(l))
+		for x := range n {
+			l[x] = (x*(i+1) + i) % n
+		}
+		if made := slices.Compact(slices.Sorted(slices.Values(l))); len(made) == n {
+			all = append(all, l)
+		}
+	}
+	return all
 }
 
 // Said tells g said in other ways: the same nodes lead to the same ones, not counted those that lead to themselves.

@@ -1,19 +1,11 @@
 package scc
 
 import (
-	"fmt"
 	"slices"
 	"testing"
 
 	"warp/graphs"
-	"warp/lists"
 )
-
-// told tells g, cut where it is long.
-func told(g [][]int) string {
-	s := graphs.Told(g[:min(len(g), 200)])
-	return fmt.Sprintf("%s of %d nodes", s[:min(len(s), 600)], len(g))
-}
 
 // checkOf checks that Of tells these groups of g, again when the answer is spoilt, and that g stays what it is.
 func checkOf(t *testing.T, g, want [][]int) {
@@ -22,7 +14,7 @@ func checkOf(t *testing.T, g, want [][]int) {
 	for range 2 {
 		got := Of(g)
 		if !graphs.Same(got, want) {
-			t.Errorf("of %s: %s, want %s", told(g), told(got), told(want))
+			t.Errorf("of %s: %s, want %s", graphs.Cut(g), graphs.Cut(got), graphs.Cut(want))
 		}
 		graphs.Scribble(got, -7)
 		checkStays(t, g, was)
@@ -33,7 +25,7 @@ func checkOf(t *testing.T, g, want [][]int) {
 func checkStays(t *testing.T, g, was [][]int) {
 	t.Helper()
 	if !graphs.Same(g, was) {
-		t.Errorf("%s: it was %s", told(g), told(was))
+		t.Errorf("%s: it was %s", graphs.Cut(g), graphs.Cut(was))
 	}
 }
 
@@ -43,7 +35,7 @@ func checkReach(t *testing.T, g [][]int, a, b int, want bool) {
 	was := graphs.Copy(g)
 	for range 2 {
 		if got := Reach(g, a, b); got != want {
-			t.Errorf("of %s, from %d to %d: %v", told(g), a, b, got)
+			t.Errorf("of %s, from %d to %d: %v", graphs.Cut(g), a, b, got)
 		}
 		checkStays(t, g, was)
 	}
@@ -61,29 +53,6 @@ func checkNoNodes(t *testing.T, g [][]int) {
 			checkReach(t, g, no, x, false)
 		}
 	}
-}
-
-// renamings tells ways to name n nodes: all of few, some of many.
-func renamings(n int) [][]int {
-	names := lists.Span(0, n-1)
-	var all [][]int
-	if n <= 4 {
-		lists.Orders(names, func(l []int) { all = append(all, l) })
-		return all
-	}
-	for i := range n {
-		l := slices.Concat(names[i:], names[:i])
-		all = append(all, slices.Clone(l))
-		slices.Reverse(l)
-		all = append(all, slices.Clone(l))
-		for x := range n {
-			l[x] = (x*(i+1) + i) % n
-		}
-		if made := slices.Compact(slices.Sorted(slices.Values(l))); len(made) == n {
-			all = append(all, l)
-		}
-	}
-	return all
 }
 
 // renamed tells groups whose nodes have other names: each rising, by their least nodes.
@@ -104,10 +73,10 @@ func renamed(groups [][]int, p []int) [][]int {
 func checkGroups(t *testing.T, g, want [][]int) {
 	t.Helper()
 	if got := plainOf(g); !graphs.Same(got, want) {
-		t.Errorf("of %s: the test itself is wrong: %s, want %s", told(g), told(got), told(want))
+		t.Errorf("the test itself is wrong: of %s: %s, want %s", graphs.Told(g), graphs.Told(got), graphs.Told(want))
 	}
 	checkOf(t, g, want)
-	for _, p := range renamings(len(g)) {
+	for _, p := range graphs.Renamings(len(g)) {
 		named, groups := graphs.Renamed(g, p), renamed(want, p)
 		checkOf(t, named, groups)
 		checkOf(t, graphs.Turned(named), groups)
@@ -145,7 +114,7 @@ func checkWayTexts(t *testing.T, rows [][2]string) {
 	for _, row := range rows {
 		g, want := graphs.Of(row[0]), graphs.Of(row[1])
 		if got := ways(g); !graphs.Same(got, want) {
-			t.Errorf("%q: the test itself is wrong: %s, want %s", row[0], told(got), told(want))
+			t.Errorf("%q: the test itself is wrong: %s, want %s", row[0], graphs.Cut(got), graphs.Cut(want))
 		}
 		checkWays(t, g, want)
 	}

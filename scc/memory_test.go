@@ -20,12 +20,12 @@ func TestNoTwoListsShareMemory(t *testing.T) {
 	for range 500 {
 		g := drawn(next)
 		if graphs.Shared(g, Of(g), Of(g)) {
-			t.Fatalf("%s: two lists share memory", told(g))
+			t.Fatalf("%s: two lists share memory", graphs.Cut(g))
 		}
 	}
 	for _, g := range [][][]int{single(40), graphs.Ring(40), graphs.Behind(single(9), graphs.Ring(9), single(9))} {
 		if graphs.Shared(g, Of(g), Of(g)) {
-			t.Fatalf("%s: two lists share memory", told(g))
+			t.Fatalf("%s: two lists share memory", graphs.Cut(g))
 		}
 	}
 }
@@ -40,13 +40,13 @@ func TestWritingChangesNothing(t *testing.T) {
 		again := Of(g)
 		graphs.Scribble(groups, -7)
 		if !graphs.Same(g, was) || !graphs.Same(again, want) {
-			t.Fatalf("%s: writing into what is told changed something", told(was))
+			t.Fatalf("%s: writing into what is told changed something", graphs.Cut(was))
 		}
 		checkOf(t, g, want)
 		checkReach(t, g, 0, len(g)-1, slices.Contains(to[0], len(g)-1))
 		graphs.Scribble(g, 0)
 		if !graphs.Same(again, want) {
-			t.Fatalf("%s: writing into what was handed in changed what is told", told(was))
+			t.Fatalf("%s: writing into what was handed in changed what is told", graphs.Cut(was))
 		}
 	}
 }
@@ -62,7 +62,7 @@ func TestAppendingChangesNothing(t *testing.T) {
 			}
 			got[i] = got[i][:len(want[i])]
 			if !graphs.Same(got, want) {
-				t.Errorf("appending to group %d: %s, want %s", i, told(got), told(want))
+				t.Errorf("appending to group %d: %s, want %s", i, graphs.Cut(got), graphs.Cut(want))
 			}
 		}
 		checkOf(t, g, want)

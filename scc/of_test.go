@@ -130,19 +130,19 @@ func each(t *testing.T, g [][]int) {
 	count, least := make([]int, len(g)), -1
 	for _, group := range Of(g) {
 		if len(group) == 0 || group[0] <= least {
-			t.Fatalf("%s: group %v behind one whose least is %d", told(g), group, least)
+			t.Fatalf("%s: group %v behind one whose least is %d", graphs.Cut(g), group, least)
 		}
 		least = group[0]
 		for i, x := range group {
 			if x < 0 || x >= len(g) || i > 0 && x <= group[i-1] {
-				t.Fatalf("%s: group %v", told(g), group)
+				t.Fatalf("%s: group %v", graphs.Cut(g), group)
 			}
 			count[x]++
 		}
 	}
 	for x, times := range count {
 		if times != 1 {
-			t.Fatalf("%s: %d stands in %d groups", told(g), x, times)
+			t.Fatalf("%s: %d stands in %d groups", graphs.Cut(g), x, times)
 		}
 	}
 }
